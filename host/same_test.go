@@ -85,7 +85,7 @@ func TestP24_7TheSlowestFirst(t *testing.T) {
 
 // goroutinesOf gives those that have done all they do the time to be gone.
 func goroutinesOf(most int) int {
-	for range 200 {
+	for range 3000 {
 		if runtime.NumGoroutine() <= most {
 			break
 		}
